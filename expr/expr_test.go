@@ -274,8 +274,4 @@ func TestLists(t *testing.T) {
 	fails(t, "["+full+" a]", 33, api.ErrSyntax)
 	fails(t, "["+full, 32, api.ErrSyntax)
 	fails(t, "[["+full+"],["+full+",a]]", 68, api.ErrMany)
-	// Whatever is where the element would begin, as the later error counts.
-	for _, s := range []string{"]", ")", ",", "+", ""} {
-		fails(t, "["+full+", "+s, 34, api.ErrMany)
-	}
 }

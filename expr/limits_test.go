@@ -180,3 +180,47 @@ func TestSameToken(t *testing.T) {
 	fails(t, list+",[]", len(list)+1, api.ErrMany)
 	fails(t, list+"*a", len(list)+1, api.ErrMany)
 }
+
+// TestElementTooMany: behind 16 elements and a comma, at each token that there
+// is. Only one with which an element begins is the first token of one too many.
+func TestElementTooMany(t *testing.T) {
+	list := "[" + strings.Repeat("1, ", 16)
+	lists := map[string]string{
+		"a list alone":        list,
+		"a list in a list":    "[a, " + list,
+		"a list with 20 open": strings.Repeat("(", 19) + list,
+		"a list of 200 nodes": "[-" + strings.Repeat("a+", 91) + "a" + strings.Repeat(", 1", 15) + ", ",
+		"a list of a call's":  "1 + at(" + list,
+		"a full list of full": "[" + strings.Repeat("[], ", 15) + list,
+	}
+	begin := strings.Fields(`a z_9 true false msg len at push 0 7 9223372036854775807 "" "]" "," 'a 'len ( [ ! -`)
+	none := strings.Fields("-> .. == != <= >= && || { } ) ] ; : , . = < > + * / %")
+	for what, list := range lists {
+		for _, behind := range []string{"", " a", " 1", " ]", "]", ")", " ,", " + 1", " (", " (a, b)]", ".a]"} {
+			for _, s := range begin {
+				fails(t, list+s+behind, len(list), api.ErrMany)
+			}
+			for _, s := range none {
+				fails(t, list+s+" "+behind, len(list), api.ErrSyntax)
+			}
+		}
+		fails(t, list, len(list), api.ErrSyntax)
+		l := tokens(t, list)
+		at := len(l) - 1
+		for _, x := range strange() {
+			l := append(l[:at:at], x, api.Token{Kind: api.TokName, Text: "a"}, api.Token{})
+			parses(t, what+" and a token that is none", l, 0, api.Expr{}, at, api.ErrSyntax)
+		}
+	}
+	// A comma behind fewer elements, too, has an element behind it.
+	for n := range 16 {
+		list := "[" + strings.Repeat("1, ", n+1)
+		if n < 15 {
+			_, _, bad := Read(list + "a]")
+			want(t, list+"a]", bad, api.OK)
+		}
+		for _, s := range none {
+			fails(t, list+s, len(list), api.ErrSyntax)
+		}
+	}
+}

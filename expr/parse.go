@@ -160,6 +160,17 @@ func (p *parser) leaf(e api.Expr) api.Expr {
 	return e
 }
 
+// begins reports whether the grammar allows an expression to begin here,
+// however it would go on.
+func (p *parser) begins() bool {
+	switch p.here().Kind {
+	case api.TokName, api.TokInt, api.TokText, api.TokSym:
+		return true
+	}
+	_, unary := p.operator(levelUnary)
+	return unary || p.is("[") || p.is("(")
+}
+
 // word reads a primary that begins with this name.
 func (p *parser) word(name string) api.Expr {
 	switch name {
@@ -219,7 +230,7 @@ func (p *parser) elements() []api.Expr {
 	l := []api.Expr{p.level(levelOr)}
 	for p.is(",") {
 		p.at++
-		if len(l) == api.MaxList {
+		if len(l) == api.MaxList && p.begins() {
 			panic(p.wrong(api.ErrMany))
 		}
 		l = append(l, p.level(levelOr))
